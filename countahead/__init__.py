@@ -1,0 +1,1 @@
+"""Persons in a line who count the smaller marks ahead."""
