@@ -1,6 +1,6 @@
 """Lines, codes, and the rounds that are played on a line."""
 
-from countahead.errors import NoLine, NoPerson, NoRounds
+from countahead.errors import NoCode, NoLine, NoPerson, NoRounds
 
 MOST_PERSONS = 60
 GREATEST = 10 ** 30
@@ -28,6 +28,12 @@ def check_line(line):
     """Raise NoLine if this is not a line."""
     if not is_line(line):
         raise NoLine("a line is a tuple of 1 to 60 integers from -10 ** 30 to 10 ** 30")
+
+
+def check_code(code):
+    """Raise NoCode if this is not a code."""
+    if not is_code(code):
+        raise NoCode("a code is a line in which each mark is at least 0 and at most the place")
 
 
 def check_person(line, person):

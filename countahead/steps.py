@@ -1,6 +1,6 @@
 """The final row of a line, and the rounds that lead to it."""
 
-from countahead.errors import NotAlike
+from countahead.errors import NotAlike, NotStill
 from countahead.rows import check_line, check_person, next_row, rows_of, smaller_ahead
 
 
@@ -28,6 +28,12 @@ def is_still(line):
     """Return True if a round does not change the line."""
     check_line(line)
     return next_row(line) == line
+
+
+def check_still(row):
+    """Raise NoLine if this is not a line, NotStill if it is one that a round changes."""
+    if not is_still(row):
+        raise NotStill("a round changes this line")
 
 
 def person_rounds(line, person):

@@ -1,40 +1,17 @@
 """The listed errors of sections 4 and 5, alone and several at once, in the listed order; points 3 and 4."""
 
-import copy
 import inspect
 import unittest
 
-from countahead.errors import MarkError, NoLine, NoPerson, NoRounds, NotAlike
+from countahead.errors import NoLine, NoPerson, NoRounds, NotAlike
 from countahead.rows import counted, is_code, is_line, ranks, row_after, rows_of
 from countahead.steps import final_row, is_still, last_smaller, meet, person_rounds, rounds_needed
+from tests.faults import FaultCase
 from tests.plain import GREAT, NO_LINES, NO_PERSONS, NO_ROUNDS
 
 GOOD_LINES = [(5, 1, 2, 4), (0,), (-GREAT, GREAT), (0, 0, 2, 3), tuple(range(60)), (7,) * 60]
 OF_A_LINE = [row_after, ranks, final_row, is_still, rounds_needed]
 OF_A_PERSON = [counted, last_smaller, person_rounds]
-
-
-class FaultCase(unittest.TestCase):
-
-    def assert_raises(self, kind, function, *arguments, **named):
-        """It raises an error of this very class, and the arguments are as before."""
-        held = [*arguments, *named.values()]
-        before = [self.copied(value) for value in held]
-        try:
-            function(*arguments, **named)
-        except Exception as error:
-            caught = error
-        else:
-            self.fail(f"{function.__name__}{arguments!r} {named!r} raises nothing")
-        self.assertIs(type(caught), kind, (function.__name__, arguments, named, caught))
-        self.assertIsInstance(caught, MarkError)
-        self.assertIsInstance(caught, ValueError)
-        self.assertEqual(held, before)
-
-    def copied(self, value):
-        if isinstance(value, (tuple, list, dict, set)):
-            return copy.deepcopy(value)
-        return value
 
 
 class NoLineTest(FaultCase):

@@ -9,11 +9,17 @@ FOLDER = pathlib.Path(__file__).resolve().parent.parent / "countahead"
 INTERFACE = {
     "rows": ["is_line", "is_code", "counted", "row_after", "rows_of", "ranks"],
     "steps": ["last_smaller", "final_row", "is_still", "person_rounds", "rounds_needed", "meet"],
+    "forests": ["parent", "children", "roots", "depths", "stretch", "brackets", "read_brackets"],
+    "still": ["count_still", "nth_still", "still_number"],
+    "orders": ["is_order", "order_of", "count_orders", "nth_order", "order_number"],
     "errors": [
         "MarkError", "NoLine", "NoPerson", "NoMark", "NoRounds", "NoSize", "NoNumber", "NoBound", "NoWeights",
         "NotStill", "NotAlike", "NoCode", "NoOrder", "Full", "Nothing", "NoOperation", "NoText", "NoRow",
     ],
 }
+
+
+TAKEN_FROM_MATH = ("comb", "factorial")
 
 
 def files():
@@ -69,7 +75,9 @@ class FormTest(unittest.TestCase):
         for path in files():
             for node in ast.walk(tree_of(path)):
                 self.assertNotIsInstance(node, ast.Import, path)
-                if isinstance(node, ast.ImportFrom):
+                if isinstance(node, ast.ImportFrom) and node.module == "math":
+                    self.assertTrue(all(alias.name in TAKEN_FROM_MATH for alias in node.names), path)
+                elif isinstance(node, ast.ImportFrom):
                     package, module = node.module.split(".")
                     self.assertEqual((package, node.level), ("countahead", 0), path)
                     known = defined_in(FOLDER / f"{module}.py")
