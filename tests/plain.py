@@ -101,6 +101,14 @@ def slow_line(size):
     return tuple(range(size + 1, 2 * size - 1)) + (0, size)
 
 
+def five_mark_lines():
+    """Each line of 1 to 5 persons with the marks 0 to 4."""
+    lines = []
+    for size in range(1, 6):
+        lines.extend(itertools.product(range(5), repeat=size))
+    return lines
+
+
 def small_lines():
     """Each line of 1 to 5 persons with the marks 0 to 2, and each order of 1 to 5 persons."""
     lines = []
@@ -139,6 +147,10 @@ def large_lines():
         lines.extend(lines_of(size, choose))
     return lines
 
+
+# Still after 12 rounds; and the slow line of 60 persons with other marks.
+SOON_STILL = tuple((place * 37) % 61 - 10 ** 29 for place in range(60))
+LATE_STILL = tuple(range(60, 118)) + (0, 2)
 
 ALL_LINES = small_lines() + large_lines()
 ALL_ROWS = {line: plain_rows(line) for line in ALL_LINES}

@@ -5,8 +5,8 @@ import types
 import unittest
 
 from countahead.rows import counted, is_code, is_line, ranks, row_after, rows_of
-from tests.plain import ALL_LINES, ALL_ROWS, GREAT
-from tests.plain import is_integer, plain_counted, plain_final, plain_needed, slow_line
+from tests.plain import ALL_LINES, ALL_ROWS, GREAT, LATE_STILL, SOON_STILL
+from tests.plain import five_mark_lines, is_integer, plain_counted, plain_final, plain_needed, plain_rows, slow_line
 
 
 def numbers_of_rounds(size):
@@ -59,6 +59,30 @@ class RowAfterTest(unittest.TestCase):
             line = slow_line(size)
             for rounds, row in enumerate(ALL_ROWS[line]):
                 self.assertEqual(row_after(line, rounds=rounds), row, (line, rounds))
+
+    def test_a_line_of_60_that_is_still_after_a_few_rounds(self):
+        rows = plain_rows(SOON_STILL)
+        self.assertEqual(plain_needed(rows), 12)
+        for rounds in [12, 13, 30, 58, 59, 60, 61, GREAT]:
+            self.assertEqual(row_after(SOON_STILL, rounds=rounds), rows[12], rounds)
+        for rounds in range(12):
+            self.assertEqual(row_after(SOON_STILL, rounds=rounds), rows[rounds], rounds)
+            self.assertNotEqual(rows[rounds], rows[12])
+
+    def test_a_slow_line_of_60_after_each_number_of_rounds(self):
+        for line in [LATE_STILL, slow_line(60)]:
+            rows = plain_rows(line)
+            self.assertEqual(plain_needed(rows), 59)
+            for rounds in range(62):
+                self.assertEqual(row_after(line, rounds=rounds), rows[rounds], rounds)
+            self.assertEqual(row_after(line, rounds=GREAT), rows[59])
+
+    def test_all_lines_of_up_to_five_persons(self):
+        for line in five_mark_lines():
+            rows = plain_rows(line)
+            for rounds in range(len(line) + 2):
+                self.assertEqual(row_after(line, rounds=rounds), rows[rounds], (line, rounds))
+            self.assertEqual(list(rows_of(line)), rows[:plain_needed(rows) + 1], line)
 
     def test_one_round_if_none_is_given(self):
         for line in ALL_LINES:

@@ -3,9 +3,10 @@
 import random
 import unittest
 
+from countahead.rows import ranks
 from countahead.steps import final_row, is_still, last_smaller, meet, person_rounds, rounds_needed
-from tests.plain import ALL_LINES, ALL_ROWS, GREAT, is_integer
-from tests.plain import plain_final, plain_last, plain_meet, plain_needed, plain_person_rounds, slow_line
+from tests.plain import ALL_LINES, ALL_ROWS, GREAT, LATE_STILL, SOON_STILL, five_mark_lines, is_integer, lines_of
+from tests.plain import plain_final, plain_last, plain_meet, plain_needed, plain_person_rounds, plain_rows, slow_line
 
 
 class LastSmallerTest(unittest.TestCase):
@@ -69,14 +70,58 @@ class StillTest(unittest.TestCase):
 
 class PersonRoundsTest(unittest.TestCase):
 
+    def compare(self, line, rows):
+        found = [person_rounds(line, person) for person in range(len(line))]
+        for person in range(len(line)):
+            self.assertEqual(found[person], plain_person_rounds(rows, person), (line, person))
+            self.assertTrue(is_integer(found[person]))
+        self.assertEqual(max(found), plain_needed(rows), line)
+        return found
+
     def test_against_the_plain_rounds(self):
         for line in ALL_LINES:
-            rows = ALL_ROWS[line]
-            found = [person_rounds(line, person) for person in range(len(line))]
-            for person in range(len(line)):
-                self.assertEqual(found[person], plain_person_rounds(rows, person), (line, person))
-                self.assertTrue(is_integer(found[person]))
-            self.assertEqual(max(found), plain_needed(rows), line)
+            self.compare(line, ALL_ROWS[line])
+
+    def test_all_lines_of_up_to_five_persons(self):
+        for line in five_mark_lines():
+            self.compare(line, plain_rows(line))
+
+    def test_drawn_lines(self):
+        choose = random.Random(14)
+        for size in range(1, 61):
+            for greatest in [size // 4, size, GREAT]:
+                line = tuple(choose.randint(-greatest, greatest) for _ in range(size))
+                self.compare(line, plain_rows(line))
+
+    def test_slow_lines(self):
+        self.assertEqual(self.compare(LATE_STILL, plain_rows(LATE_STILL)), [1] * 58 + [0, 59])
+        for size in range(2, 61):
+            line = slow_line(size)
+            self.assertEqual(self.compare(line, plain_rows(line))[-1], size - 1)
+
+    def test_many_slow_persons(self):
+        for size in [4, 11, 31, 60]:
+            line = tuple(range(size, size + size // 2)) + tuple(range(size - size // 2))
+            self.compare(line, plain_rows(line))
+            line = tuple(range(size, size + size // 2)) + (0,) + (2,) * (size - size // 2 - 1)
+            self.compare(line, plain_rows(line))
+
+    def test_soon_still(self):
+        self.assertEqual(max(self.compare(SOON_STILL, plain_rows(SOON_STILL))), 12)
+
+    def test_lines_with_equal_marks(self):
+        choose = random.Random(15)
+        for size in [2, 5, 17, 40, 60]:
+            for marks in [(7,), (0, 1), (0, 5, 59), (-1, 0, 1, 2), tuple(range(size // 2 + 1))]:
+                line = tuple(choose.choice(marks) for _ in range(size))
+                self.compare(line, plain_rows(line))
+                line = tuple(sorted(line))
+                self.compare(line, plain_rows(line))
+                self.compare(line[::-1], plain_rows(line[::-1]))
+
+    def test_a_final_mark_at_the_start_that_stays(self):
+        for row in [(0,), (0, 1), (0, 0, 2, 3), tuple(range(60)), (0,) * 60]:
+            self.assertEqual(self.compare(row, plain_rows(row)), [0] * len(row))
 
     def test_a_mark_that_leaves_its_final_value_and_comes_back(self):
         # Played: 2 0 2, then 0 0 1, then 0 0 2: the mark at the end is the final one, but not to stay.
@@ -89,6 +134,15 @@ class PersonRoundsTest(unittest.TestCase):
 
 
 class RoundsNeededTest(unittest.TestCase):
+
+    def test_all_lines_of_up_to_five_persons(self):
+        for line in five_mark_lines():
+            rows = plain_rows(line)
+            self.assertEqual(rounds_needed(line), plain_needed(rows), line)
+            self.assertEqual(final_row(line), rows[-1], line)
+            self.assertIs(is_still(line), rows[1] == line, line)
+            for person in range(len(line)):
+                self.assertEqual(last_smaller(line, person), plain_last(line, person), (line, person))
 
     def test_against_the_plain_rounds(self):
         for line in ALL_LINES:
@@ -151,6 +205,19 @@ class MeetTest(unittest.TestCase):
         for line in lines:
             for other in lines:
                 self.compare(line, other)
+
+    def test_lines_of_60_persons(self):
+        choose = random.Random(16)
+        lines = [SOON_STILL, LATE_STILL, slow_line(60)]
+        for _ in range(5):
+            lines.extend(lines_of(60, choose))
+        for line in lines:
+            rows = plain_rows(line)
+            # Each of these comes to the same final row: its own rows, and lines with the same order of marks.
+            for other in [rows[1], rows[2], rows[5], tuple(2 * mark - 1 for mark in rows[1]), ranks(line)]:
+                wanted = plain_meet(rows, plain_rows(other))
+                self.assertEqual(meet(line, other), wanted, (line, other))
+                self.assertEqual(meet(other, line), wanted, (other, line))
 
     def test_equal_lines(self):
         for line in ALL_LINES:

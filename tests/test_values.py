@@ -37,6 +37,35 @@ class LineTest(unittest.TestCase):
                 marks[place] = mark
                 self.assertIs(is_line(tuple(marks)), False, marks)
 
+    def test_one_wrong_mark_among_sixty(self):
+        good = [(place * 37) % 61 - 10 ** 29 for place in range(60)]
+        self.assertIs(is_line(tuple(good)), True)
+        wrong = [None, True, False, "", "7", "seven", [], [7], (), (7,), {}, {7: 7}, b"7", object(), int]
+        wrong.extend([GREAT + 1, -GREAT - 1, 10 ** 99, -10 ** 99])
+        for place in [0, 1, 29, 30, 58, 59]:
+            for mark in wrong:
+                marks = list(good)
+                marks[place] = mark
+                self.assertIs(is_line(tuple(marks)), False, (place, mark))
+                codes = list(range(60))
+                codes[place] = mark
+                self.assertIs(is_code(tuple(codes)), False, (place, mark))
+
+    def test_an_int_that_is_not_a_bool_is_an_integer(self):
+
+        class Mark(int):
+            pass
+
+        self.assertIs(is_line((5, Mark(1), Mark(-GREAT))), True)
+        self.assertIs(is_line((5, Mark(GREAT + 1))), False)
+        self.assertIs(is_code((0, Mark(1))), True)
+        self.assertIs(is_code((0, Mark(2))), False)
+
+    def test_several_wrong_marks(self):
+        for mark in [None, True, "7", [7], GREAT + 1]:
+            self.assertIs(is_line((mark,) * 60), False)
+            self.assertIs(is_line((0, mark, None, "7", mark)), False)
+
     def test_deep_values(self):
         deep = ()
         for _ in range(39):
