@@ -21,14 +21,19 @@ def inverse_of(order):
     return found
 
 
-def order_of(code):
-    """Return the order from which one round leads to the code."""
-    check_code(code)
+def sequence_of(code):
+    """Return the sequence of a code as a list."""
     sequence = []
     # The mark tells how many of the persons ahead come earlier in the sequence.
     for person, mark in enumerate(code):
         sequence.insert(mark, person)
-    return tuple(inverse_of(sequence))
+    return sequence
+
+
+def order_of(code):
+    """Return the order from which one round leads to the code."""
+    check_code(code)
+    return tuple(inverse_of(sequence_of(code)))
 
 
 def list_lengths(row):

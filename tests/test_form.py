@@ -12,6 +12,9 @@ INTERFACE = {
     "forests": ["parent", "children", "roots", "depths", "stretch", "brackets", "read_brackets"],
     "still": ["count_still", "nth_still", "still_number"],
     "orders": ["is_order", "order_of", "count_orders", "nth_order", "order_number"],
+    "marks": ["least_below", "greatest_marks", "count_marks"],
+    "before": ["least_before", "has_before", "count_before", "nth_before", "number_before"],
+    "reading": ["relation_in", "relation_after", "certain_pairs"],
     "errors": [
         "MarkError", "NoLine", "NoPerson", "NoMark", "NoRounds", "NoSize", "NoNumber", "NoBound", "NoWeights",
         "NotStill", "NotAlike", "NoCode", "NoOrder", "Full", "Nothing", "NoOperation", "NoText", "NoRow",
