@@ -52,10 +52,10 @@ def check_person(line, person):
         raise NoPerson("a person is a place of the line, from 0 at the front")
 
 
-def check_rounds(rounds):
+def check_rounds(rounds, least=0):
     """Raise NoRounds if this is not a number of rounds."""
-    if not is_between(rounds, 0, GREATEST):
-        raise NoRounds("a number of rounds is an integer from 0 to 10 ** 30")
+    if not is_between(rounds, least, GREATEST):
+        raise NoRounds(f"a number of rounds is an integer from {least} to 10 ** 30")
 
 
 def next_row(line):

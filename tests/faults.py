@@ -1,6 +1,5 @@
 """A test case that asks for an error of one class."""
 
-import copy
 import unittest
 
 from countahead.errors import MarkError
@@ -24,6 +23,9 @@ class FaultCase(unittest.TestCase):
         self.assertEqual(held, before)
 
     def copied(self, value):
-        if isinstance(value, (tuple, list, dict, set)):
-            return copy.deepcopy(value)
+        """The same in new lists, tuples, dicts and sets; an object of another kind is equal to itself only."""
+        if isinstance(value, dict):
+            return {key: self.copied(worth) for key, worth in value.items()}
+        if type(value) in (tuple, list, set):
+            return type(value)([self.copied(item) for item in value])
         return value

@@ -10,7 +10,7 @@ from countahead.before import count_before, has_before, least_before, nth_before
 from countahead.errors import NoCode, NoNumber
 from tests.faults import FaultCase
 from tests.plain import GREAT, NO_LINES, is_integer, plain_round, slow_line
-from tests.walks import CODES, LARGE_STILL, NO_CODES, NO_NUMBERS, ORDERS, SIZES, sequence_of
+from tests.walks import CODES, LARGE_STILL, NO_CODES, NO_NUMBERS, ORDERS, SIZES, led, sequence_of
 
 OF_A_CODE = [least_before, has_before, count_before, number_before]
 
@@ -33,14 +33,6 @@ def plain_sequence(code):
 
 def marks_in(line, sequence):
     return [line[person] for person in sequence]
-
-
-def gathered(lines):
-    """The lines by what a round makes of them."""
-    found = {}
-    for line in lines:
-        found.setdefault(plain_round(line), []).append(line)
-    return found
 
 
 def plain_count(code):
@@ -87,7 +79,7 @@ def drawn_codes():
 
 DRAWN = drawn_codes()
 FOLLOWING = [plain_round(code) for code in DRAWN]
-CODES_TO = {size: gathered(CODES[size]) for size in SIZES}
+CODES_TO = {size: led(CODES[size]) for size in SIZES}
 
 
 class ExamplesTest(unittest.TestCase):
@@ -129,7 +121,7 @@ class LeastBeforeTest(unittest.TestCase):
 
     def test_against_all_lines_of_few_persons(self):
         for size in range(1, 6):
-            lines_to = gathered(itertools.product(range(size), repeat=size))
+            lines_to = led(itertools.product(range(size), repeat=size))
             self.assertEqual(sorted(lines_to), CODES[size])
             for code, lines in lines_to.items():
                 least = least_before(code)

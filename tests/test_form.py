@@ -15,12 +15,24 @@ INTERFACE = {
     "marks": ["least_below", "greatest_marks", "count_marks"],
     "before": ["least_before", "has_before", "count_before", "nth_before", "number_before"],
     "reading": ["relation_in", "relation_after", "certain_pairs"],
+    "weights": ["is_weights", "weighted_after", "weighted_final", "weighted_needed"],
+    "live": ["LiveLine"],
+    "texts": ["show_line", "read_line"],
+    "console": ["Console"],
     "errors": [
         "MarkError", "NoLine", "NoPerson", "NoMark", "NoRounds", "NoSize", "NoNumber", "NoBound", "NoWeights",
         "NotStill", "NotAlike", "NoCode", "NoOrder", "Full", "Nothing", "NoOperation", "NoText", "NoRow",
     ],
 }
 
+
+METHODS = {
+    ("live", "LiveLine"): [
+        "line", "final", "stands", "of", "still", "round", "rounds", "join", "leave", "mark", "undo", "log", "preview",
+        "__init__", "__len__", "__eq__",
+    ],
+    ("console", "Console"): ["__init__", "say"],
+}
 
 TAKEN_FROM_MATH = ("comb", "factorial")
 
@@ -92,6 +104,20 @@ class FormTest(unittest.TestCase):
             known = defined_in(FOLDER / f"{module}.py")
             for name in names:
                 self.assertEqual(known.count(name), 1, (module, name))
+
+    def test_the_methods_stand_in_their_classes(self):
+        for (module, name), methods in METHODS.items():
+            found = [node for node in tree_of(FOLDER / f"{module}.py").body if getattr(node, "name", "") == name]
+            self.assertEqual([type(node) for node in found], [ast.ClassDef])
+            known = [node.name for node in found[0].body if isinstance(node, ast.FunctionDef)]
+            for method in methods:
+                self.assertEqual(known.count(method), 1, (name, method))
+
+    def test_what_the_rules_bar_beside_a_class_that_compares(self):
+        for path in files():
+            for node in ast.walk(tree_of(path)):
+                self.assertNotIsInstance(node, ast.GeneratorExp, path)
+                self.assertFalse(isinstance(node, ast.Attribute) and node.attr == "sort", path)
 
 
 if __name__ == "__main__":

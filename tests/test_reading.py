@@ -9,7 +9,7 @@ from countahead.errors import NoCode, NoLine, NoPerson, NotStill
 from countahead.reading import certain_pairs, relation_after, relation_in
 from tests.faults import FaultCase
 from tests.plain import GREAT, NO_LINES, NO_PERSONS, is_integer, plain_final, plain_round
-from tests.walks import CODES, LARGE_STILL, NO_CODES, NOT_STILL, STILL, grouped
+from tests.walks import CODES, LARGE_STILL, NO_CODES, NOT_STILL, STILL, grouped, led
 
 TURNED = {"<": ">", "<=": ">=", ">": "<", ">=": "<=", None: None}
 
@@ -26,13 +26,6 @@ def relation_of(lines, person, other):
     if pairs <= {1, 0}:
         return ">="
     return None
-
-
-def by_what_a_round_makes(lines):
-    found = {}
-    for line in lines:
-        found.setdefault(plain_round(line), []).append(line)
-    return found
 
 
 def closed(size, steps):
@@ -119,7 +112,7 @@ class FewPersonsTest(unittest.TestCase):
 
     def test_relation_after(self):
         for size in range(1, 6):
-            lines_to = by_what_a_round_makes(itertools.product(range(size), repeat=size))
+            lines_to = led(itertools.product(range(size), repeat=size))
             self.assertEqual(sorted(lines_to), CODES[size])
             for code, lines in lines_to.items():
                 for person, other in itertools.permutations(range(size), 2):

@@ -26,12 +26,22 @@ def all_orders(size):
     return list(itertools.permutations(range(size)))
 
 
-def grouped(lines):
-    """The lines by their final row."""
+def gathered(lines, function):
+    """The lines by what the function makes of them."""
     found = {}
     for line in lines:
-        found.setdefault(plain_final(line), []).append(line)
+        found.setdefault(function(line), []).append(line)
     return found
+
+
+def grouped(lines):
+    """The lines by their final row."""
+    return gathered(lines, plain_final)
+
+
+def led(lines):
+    """The lines by what a round makes of them."""
+    return gathered(lines, plain_round)
 
 
 STILL = {size: all_still(size) for size in SIZES}
